@@ -50,3 +50,9 @@ func Kern(k api.Kern) api.Kern {
 	k.Sent = List(k.Sent)
 	return k
 }
+
+// Seat is a seat of its own.
+func Seat(s api.Seat) api.Seat {
+	s.K = Kern(s.K)
+	return s
+}
