@@ -56,3 +56,12 @@ func Seat(s api.Seat) api.Seat {
 	s.K = Kern(s.K)
 	return s
 }
+
+// System is a whole machine of its own.
+func System(s api.System) api.System {
+	s.P = Plan(s.P)
+	s.Images = Rows(s.Images)
+	s.Seats = Each(s.Seats, Seat)
+	s.Arrived = Rows(s.Arrived)
+	return s
+}
