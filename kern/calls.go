@@ -17,15 +17,12 @@ const (
 // called does the call of the process whose turn it is.
 func (g *guest) called(p api.Proc) {
 	x := call.From(p.C)
-	var r result
 	switch x.N {
 	case api.SExit:
 		g.end(p, int(x.A%256), 0)
-		return
 	case api.SYield:
-		g.answer(p.Pid, x, r)
+		g.answer(p.Pid, x, result{})
 		g.T = turn.Yield(g.T)
-		return
 	case api.SSleep:
 		if x.A > 0 {
 			g.sleep(p, x)
@@ -33,26 +30,32 @@ func (g *guest) called(p api.Proc) {
 		}
 		fallthrough // who sleeps for no cycle is answered at once, and wants nothing
 	case api.SRest, api.SHalt, api.SMode:
-		g.Want, r.e = wanted(x)
+		want, e := wanted(x)
+		g.Want = want
+		g.reply(p, x, result{e: e})
 	case api.SKill:
-		r.e = g.kill(x.A)
-		if r.e == api.OK && int(x.A) == p.Pid {
+		e := g.kill(x.A)
+		if e == api.OK && int(x.A) == p.Pid {
 			return
 		}
+		g.reply(p, x, result{e: e})
 	case api.SFork:
-		r = g.fork(p)
+		g.reply(p, x, g.fork(p))
 	case api.SSpawn:
-		r = g.spawn(p, x.A)
+		g.reply(p, x, g.spawn(p, x.A))
 	case api.SExec:
-		r = g.exec(p, x.A)
+		g.reply(p, x, g.exec(p, x.A))
 	default:
 		if !g.attempt(p, g.trialOf(x)) {
 			g.wait(p, x)
 			return
 		}
 		g.T = turn.Spend(g.T)
-		return
 	}
+}
+
+// reply answers the process whose turn it is, which costs a cycle of it.
+func (g *guest) reply(p api.Proc, x api.Call, r result) {
 	g.answer(p.Pid, x, r)
 	g.T = turn.Spend(g.T)
 }

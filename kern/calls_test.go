@@ -109,6 +109,14 @@ func TestEndsOfOrphans(t *testing.T) {
 	}
 }
 
+// TestEndsOfItsOwnChild: in an odd table, where a process is its own parent, it is adopted before its parent is looked for.
+func TestEndsOfItsOwnChild(t *testing.T) {
+	got := kern.Step(asking(t, family(0, 2), 2, api.SExit, 8))
+	if len(got.P) != 2 || got.P[1].State != api.PDead || got.P[1].Parent != 1 || got.P[1].Code != 8 {
+		t.Error(got.P)
+	}
+}
+
 // TestYield: P13.3, answered, and the next one has its turn.
 func TestYield(t *testing.T) {
 	k := asking(t, family(0, 1, 1), 1, api.SYield, 9, 9, 9)

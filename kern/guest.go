@@ -69,7 +69,7 @@ func (g *guest) end(p api.Proc, code, why int) {
 	g.T = turn.Drop(g.T, p.Pid)
 	g.S = sleep.Drop(g.S, p.Pid)
 	g.P = table.Adopt(g.P, p.Pid, first)
-	p, _ = table.Find(g.P, p.Pid)
+	p, _ = table.Find(g.P, p.Pid) // anew: in an odd table it may be a child of its own
 	parent, ok := table.Find(g.P, p.Parent)
 	if !ok || parent.State == api.PDead {
 		g.P = table.Remove(g.P, p.Pid)
